@@ -143,7 +143,7 @@ func stringSplit(args []api.Value) (api.Value, bool) {
 	if between == "" {
 		return api.Value{}, false
 	}
-	return textList(strings.Split(text, between)), true
+	return textList(strings.SplitN(text, between, api.MaxText)), true // as many pieces can't be sound, so no room is taken for more
 }
 
 func stringToJSON(args []api.Value) (api.Value, bool) {

@@ -75,7 +75,12 @@ func TestDeepCalls(t *testing.T) {
 	for range 200 {
 		row = append(row, list())
 	}
-	tells(t, "States.Array(1"+strings.Repeat(",States.Array()", 200)+")", api.Value{}, list(row...), nil)
+	for deep := 1; deep < 64; deep++ { // calls that stand beside each other aren't within each other
+		tells(t, nested("1"+strings.Repeat(",States.Array()", 200), deep), api.Value{}, nest(list(row...), deep-1), nil)
+	}
+	tells(t, nested(nested("", 62)+","+nested("", 61)+","+nested("", 62), 2), api.Value{}, list(list(nest(list(), 61), nest(list(), 60), nest(list(), 61))), nil)
+	beside := "States.Array(" + nested("", 63) + ","
+	refuses(t, beside+nested("", 64)+")", len(beside)+63*size, api.ErrDeep)
 }
 
 // P5.2: a call that is cut off anywhere is none.
