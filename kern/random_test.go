@@ -1,0 +1,247 @@
+package kern_test
+
+import (
+	"fmt"
+	"math"
+	"math/rand"
+	"slices"
+
+	"voyage/api"
+)
+
+// oneOf picks one of these.
+func oneOf[T any](r *rand.Rand, items ...T) T { return items[r.Intn(len(items))] }
+
+// maybe is true once in so many times.
+func maybe(r *rand.Rand, times int) bool { return r.Intn(times) == 0 }
+
+// randomValue has members that randomPath's paths lead to, mostly.
+func randomValue(r *rand.Rand) api.Value {
+	if maybe(r, 9) {
+		return val(oneOf(r, "null", "1", "[]", "[1,[2],{}]", `"1970-01-01T00:00:09Z"`, "{}", `"x"`, "true", "2.5", "-1"))
+	}
+	return val(fmt.Sprintf(`{"n":%d,"l":%s,"t":%s,"o":{"n":%d,"l":[%d]}}`, r.Intn(4), oneOf(r, "[]", "[1]", "[3,1]", `[{"n":1,"l":[2,3]},{"n":2,"l":[]}]`, `["a",{"n":0,"l":[1]},null]`, "[0,1,2,3]"), oneOf(r, `"1970-01-01T00:00:12.5Z"`, `"1970-01-01T00:00:03Z"`, `"1970-01-01T00:00:07Z"`, `"soon"`), r.Intn(4), r.Intn(9)))
+}
+
+func randomPath(r *rand.Rand) api.Path {
+	switch r.Intn(40) {
+	case 0, 1, 2:
+		return way(oneOf(r, "$$.Execution.Input", "$$.Execution.Input", "$$.Execution.Input.o", "$$.State", "$$.Map.Item.Value", "$$", "$$.Map.Item"))
+	case 3:
+		return way(oneOf(r, "null", "$.gone", "$.l[-1]", "$.l[0]", "$.n.n", "$.t"))
+	case 4, 5:
+		return way("$")
+	case 6:
+		return way(oneOf(r, "$.o", "$.l", "$.n"))
+	}
+	return api.Path{}
+}
+
+func randomPut(r *rand.Rand) api.Path {
+	switch r.Intn(12) {
+	case 0:
+		return way(oneOf(r, "$.n.x", "null", "$.l[0]", "$", "$.l[9]"))
+	case 1, 2:
+		return api.Path{}
+	case 3, 4, 5:
+		return way("null")
+	}
+	return way(oneOf(r, "$.r", "$.r", "$.o.r", "$.n"))
+}
+
+func randomTemplate(r *rand.Rand) api.Value {
+	if !maybe(r, 3) {
+		return val(oneOf(r, `{"n":1,"l":[1,2],"t":"1970-01-01T00:00:04Z"}`, `{"n.$":"$$.State.RetryCount","l.$":"$$.Execution.Input.l","o":{"n":1,"l":[]}}`))
+	}
+	return val(oneOf(r, `{"n.$":"$.n","l.$":"$.l","t":"1970-01-01T00:00:04Z"}`, `{"n.$":"$$.State.RetryCount","l.$":"$$.Execution.Input"}`, `{"l.$":"States.Array($, $$.State.Name)","n":1}`, `{"n.$":"$$.Map.Item.Index","v.$":"$$.Map.Item.Value","l":[1,2]}`, `{"n.$":"$.gone"}`, `{}`, `{"all.$":"$","l":[]}`))
+}
+
+func randomNames(r *rand.Rand) []string {
+	if maybe(r, 2) {
+		return []string{all}
+	}
+	return oneOf(r, []string{"e"}, []string{"f", "e"}, []string{"States.TaskFailed"}, []string{runtime}, []string{parameters, resultPath}, []string{"f"}, []string{limit, runtime, "e"}, nil)
+}
+
+func randomRetry(r *rand.Rand) []api.Retrier {
+	var l []api.Retrier
+	for range r.Intn(3) {
+		l = append(l, api.Retrier{Errors: randomNames(r), Interval: r.Intn(4), Most: r.Intn(4), Rate: api.Dec{Digits: oneOf(r, "1", "2", "15")}, MaxDelay: r.Intn(3) * 2})
+	}
+	return l
+}
+
+func randomCatch(r *rand.Rand, next func() string) []api.Catcher {
+	var l []api.Catcher
+	for range r.Intn(3) {
+		l = append(l, api.Catcher{Errors: randomNames(r), Result: randomPut(r), Next: next()})
+	}
+	return l
+}
+
+func randomRules(r *rand.Rand, next func() string) []api.Rule {
+	var l []api.Rule
+	for range r.Intn(4) {
+		one := api.Rule{Op: oneOf(r, 15, 17, 38, 41, 39), Var: way(oneOf(r, "$.n", "$.n", "$.l", "$$.State.RetryCount", "$$.Map.Item.Index")), With: val(oneOf(r, "0", "1", "2", "true", "false")), Next: next()}
+		if maybe(r, 5) {
+			one = api.Rule{Op: oneOf(r, 1, 2, 3), All: []api.Rule{one}, Next: next()}
+		}
+		if one.Op >= 37 {
+			one.With = val(oneOf(r, "true", "false"))
+		}
+		l = append(l, one)
+	}
+	return l
+}
+
+// randomMachine has states of all types, and parts so deep. Most of what it is told by leads somewhere.
+func randomMachine(r *rand.Rand, deep int) api.Machine {
+	names := []string{"A", "B", "C", "D"}[:1+r.Intn(4)]
+	next := func() string {
+		if maybe(r, 25) {
+			return oneOf(r, "gone", "N", "")
+		}
+		return oneOf(r, names...)
+	}
+	m := api.Machine{Start: oneOf(r, names...)}
+	if maybe(r, 40) {
+		m.Start = oneOf(r, "gone", "N", "")
+	}
+	for _, name := range names {
+		s := randomState(r, deep, next)
+		s.Name = name
+		m.States = append(m.States, s)
+	}
+	return api.Machine{Start: m.Start, States: append(m.States, api.State{Name: "N", Type: oneOf(r, 0, 9, -1)}, pass("A", ""))}
+}
+
+func randomState(r *rand.Rand, deep int, next func() string) api.State {
+	s := api.State{Type: oneOf(r, 1, 1, 1, 2, 2, 2, 2, 2, 2, 3, 4, 4, 5, 6, 7, 7, 7, 8, 8, 8), Resource: oneOf(r, "r", "s"), Input: randomPath(r), Output: randomPath(r), Result: randomPut(r)}
+	if deep == 0 && s.Type >= api.Parallel {
+		s.Type = api.Task
+	}
+	if !maybe(r, 3) {
+		s.Next = next()
+	}
+	if maybe(r, 3) {
+		s.Input, s.Output = api.Path{}, api.Path{}
+	}
+	s.HasParameters, s.Parameters = maybe(r, 4), randomTemplate(r)
+	s.HasSelector, s.Selector = maybe(r, 6), val(oneOf(r, `{"n":1,"l.$":"$"}`, `{"n":2,"l":[1]}`, `{"n":2,"l":[]}`, `{"x.$":"$[0]"}`))
+	s.HasFixed, s.Fixed = maybe(r, 3), randomValue(r)
+	s.Retry, s.Catch = randomRetry(r), randomCatch(r, next)
+	s.Rules = randomRules(r, next)
+	if !maybe(r, 3) {
+		s.Default = next()
+	}
+	s.WaitKind, s.Seconds, s.Until = 1+r.Intn(4), oneOf(r, 0, 1, 3, -2), api.Instant{Sec: int64(r.Intn(20)), Nano: oneOf(r, 0, 0, 5, -5)}
+	if maybe(r, 20) {
+		s.WaitKind = oneOf(r, 0, 5)
+	}
+	s.AtPath = way(oneOf(r, "$.n", "$.t", "$.o.n"))
+	if maybe(r, 2) {
+		s.AtPath = way([]string{"$.t", "$.n"}[s.WaitKind%2])
+		s.WaitKind = []int{4, 2}[s.WaitKind%2]
+	}
+	s.Error, s.Cause = oneOf(r, "e", "f", "g", runtime, outOfFuel, "e\xff"), oneOf(r, "", "why", "\xff")
+	s.Items, s.Most = way(oneOf(r, "$.l", "$.l", "$.l", "$.o.l", "$", "$$.Execution.Input.l")), oneOf(r, 0, 0, 1, 2, -1)
+	if s.Type >= api.Parallel {
+		for range 1 + r.Intn(3) - r.Intn(20)/19 {
+			s.Parts = append(s.Parts, randomMachine(r, deep-1))
+		}
+	}
+	return s
+}
+
+func randomOutcome(r *rand.Rand) api.Outcome {
+	switch r.Intn(12) {
+	case 0:
+		return wrong(oneOf(r, "e\xff", "", "States.Timeout", outOfFuel), oneOf(r, "\xfe", ""))
+	case 1, 2:
+		return wrong(oneOf(r, "e", "f", "g"), oneOf(r, "", "why"))
+	case 4:
+		return api.Outcome{Fine: true, Value: api.Value{Kind: oneOf(r, 9, api.Text, api.Object), Text: "\xff", Fields: []api.Field{{Name: "n", Value: val("1")}, {Name: "l", Value: val("[1,2]")}, {Name: "n"}}}, Error: oneOf(r, "", "e")}
+	}
+	return api.Outcome{Fine: true, Value: randomValue(r)}
+}
+
+// randomTime is mostly near to now.
+func randomTime(r *rand.Rand, now int64) int64 {
+	if maybe(r, 4) {
+		return oneOf[int64](r, 0, -1, math.MinInt64, math.MaxInt64, last, last+1, last-1)
+	}
+	return now + int64(r.Intn(9)) - 3
+}
+
+// randomEvent is one that may be, or nearly so.
+func randomEvent(r *rand.Rand, c api.Config, e api.Event, now int64) api.Event {
+	if maybe(r, 3) || len(c.Frames) == 0 {
+		e.Kind = r.Intn(9)
+	}
+	if maybe(r, 3) {
+		e.Time = randomTime(r, now)
+	}
+	if maybe(r, 3) {
+		e.Outcome = randomOutcome(r)
+	}
+	if maybe(r, 3) && len(c.Frames) > 0 {
+		e.Place = slices.Clone(oneOf(r, c.Frames...).Place)
+	}
+	if maybe(r, 8) {
+		e.Place = oneOf(r, nil, []int{1}, []int{1, 1, 0}, []int{1, 1, 9}, append(slices.Clone(e.Place), 1, 1, 0))
+	}
+	return e
+}
+
+// randomConfig is a configuration changed by hand; some of the changes leave it such that it fits.
+func randomConfig(r *rand.Rand, c api.Config) api.Config {
+	c.Frames = slices.Clone(c.Frames)
+	for range 1 + r.Intn(3) {
+		if len(c.Frames) == 0 {
+			return c
+		}
+		i := r.Intn(len(c.Frames))
+		f := &c.Frames[i]
+		big := oneOf(r, -1, 0, 1, 65536, 65537, 1<<40, 1<<40+1)
+		switch r.Intn(18) {
+		case 0:
+			f.Phase = r.Intn(9) - 1
+		case 1:
+			f.At = oneOf(r, "A", "B", "C", "D", "N", "gone", "")
+		case 2:
+			f.Visit = big
+		case 3:
+			f.Attempt = big
+		case 4:
+			f.Left = big
+		case 5:
+			c.Fuel = oneOf(r, -1, 0, 0, 1, 65536, 65537)
+		case 6:
+			f.Raw = randomOutcome(r).Value
+		case 7:
+			f.Index, f.Item = r.Intn(5)-2, randomOutcome(r).Value
+		case 8:
+			f.Charged = oneOf(r, nil, []int{5}, []int{-1, 0, 0}, []int{0, 0, 0, 7})
+		case 9:
+			f.Due, f.Back = randomTime(r, 5), maybe(r, 2)
+		case 10:
+			f.Delay, f.Back = randomTime(r, 5), maybe(r, 2)
+		case 11:
+			f.Place = randomEvent(r, c, api.Event{Place: slices.Clone(f.Place)}, 0).Place
+		case 12:
+			c.Frames = slices.Delete(slices.Clone(c.Frames), i, i+1)
+		case 13:
+			c.Frames = slices.Insert(slices.Clone(c.Frames), i, *f)
+		case 14:
+			j := r.Intn(len(c.Frames))
+			c.Frames[i], c.Frames[j] = c.Frames[j], c.Frames[i]
+		case 15:
+			f.Result, f.Error, f.Cause = randomOutcome(r).Value, "e\xff", "c"
+		case 16:
+			c.Frames = append(c.Frames, api.Frame{Place: append(slices.Clone(f.Place), f.Visit, f.Attempt, r.Intn(3)), At: oneOf(r, "A", "B"), Attempt: 1, Index: -1})
+		case 17:
+			f.Phase, f.Result = api.Done, randomOutcome(r).Value
+		}
+	}
+	return c
+}
