@@ -207,18 +207,18 @@ func modelMoment(s api.State, in, ctx api.Value) bool {
 }
 
 func modelChoice(s api.State, at where, in api.Value) effect {
-	next, found := s.Default, s.Default != ""
+	next := s.Default
 	for i := 0; i < len(s.Rules); i++ {
 		holds, err := rule.Eval(s.Rules[i], in, at.ctx)
 		if err != nil {
 			return troubled(runtime)
 		}
 		if holds {
-			next, found = s.Rules[i].Next, true
+			next = s.Rules[i].Next
 			break
 		}
 	}
-	if !found {
+	if next == "" {
 		return troubled(noChoice)
 	}
 	out, name := pipe.Out(s, at.raw, in, at.ctx)

@@ -88,12 +88,15 @@ func randomRules(r *rand.Rand, next func() string) []api.Rule {
 		if one.Op >= 37 {
 			one.With = val(oneOf(r, "true", "false"))
 		}
+		if maybe(r, 8) {
+			one.Next = ""
+		}
 		l = append(l, one)
 	}
 	return l
 }
 
-// randomMachine has states of all types, and parts so deep. Most of what it is told by leads somewhere.
+// randomMachine has states of all types, and parts so deep; some have a state without a name. Most of what it is told by leads somewhere.
 func randomMachine(r *rand.Rand, deep int) api.Machine {
 	names := []string{"A", "B", "C", "D"}[:1+r.Intn(4)]
 	m := api.Machine{Start: oneOf(r, names...)}
@@ -116,6 +119,9 @@ func randomMachine(r *rand.Rand, deep int) api.Machine {
 			s.Next = ""
 		}
 		m.States = append(m.States, s)
+	}
+	if maybe(r, 2) {
+		m.States = append(m.States, pass("", oneOf(r, names...)))
 	}
 	return api.Machine{Start: m.Start, States: append(m.States, api.State{Name: "N", Type: oneOf(r, 0, 9, -1)}, pass("A", ""))}
 }

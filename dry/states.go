@@ -127,6 +127,15 @@ func (f *frame) choose(in api.Value) {
 
 // chosen gives the name of the state to which a Choice leads, or an error's.
 func (f *frame) chosen(in, ctx api.Value) (next, name string) {
+	next, name = f.ruled(in, ctx)
+	if name == noName && next == "" { // whether a rule gave it or Default did: no state is meant by it
+		return "", noChoiceName
+	}
+	return next, name
+}
+
+// ruled gives the Next of the first rule that holds, or Default, or an error's name.
+func (f *frame) ruled(in, ctx api.Value) (next, name string) {
 	for _, r := range f.state.Rules {
 		holds, err := rule.Eval(r, in, ctx)
 		switch {
@@ -135,9 +144,6 @@ func (f *frame) chosen(in, ctx api.Value) (next, name string) {
 		case holds:
 			return r.Next, noName
 		}
-	}
-	if f.state.Default == "" {
-		return "", noChoiceName
 	}
 	return f.state.Default, noName
 }

@@ -1,7 +1,9 @@
 package dry_test
 
 import (
+	"fmt"
 	"math"
+	"slices"
 	"strings"
 	"testing"
 
@@ -113,7 +115,7 @@ func TestChoice(t *testing.T) {
 		{[]api.Rule{is("$.n", "4", "B")}, "", noChoice}, {nil, "", noChoice},
 		{[]api.Rule{broken, is("$.n", "3", "B")}, "E", runtime}, {[]api.Rule{is("$.n", "3", "B"), broken}, "E", "B"}, {[]api.Rule{is("$.n", "4", "B"), broken}, "", runtime},
 		{[]api.Rule{{Op: 99, Next: "B"}}, "E", runtime}, {[]api.Rule{{Op: 1, Next: "B"}}, "E", "B"}, {[]api.Rule{{Op: 3, All: []api.Rule{is("$.n", "4", "gone")}, Next: "D"}}, "E", "D"},
-		{[]api.Rule{is("$.n", "3", "gone")}, "E", runtime}, {[]api.Rule{is("$.n", "3", "")}, "E", runtime}, {nil, "gone", runtime}, {nil, "N", runtime},
+		{[]api.Rule{is("$.n", "3", "gone")}, "E", runtime}, {[]api.Rule{is("$.n", "3", "")}, "E", noChoice}, {nil, "gone", runtime}, {nil, "N", runtime},
 		{[]api.Rule{is("$$.State.RetryCount", "0", "B")}, "E", "B"}, {[]api.Rule{is("$$.Execution.Input.n", "3", "B")}, "E", "B"},
 	} {
 		s := api.State{Name: "C", Type: api.Choice, Rules: x.rules, Default: x.other, Next: "gone"}
@@ -131,6 +133,58 @@ func TestChoice(t *testing.T) {
 			t.Errorf("%d: %s, want %s", i, shown(r, nil), x.want)
 		}
 	}
+}
+
+// TestChoiceOfNoName holds that a next state whose name is empty is none, whether a rule that holds gave it or Default did, and though a state be called so; Default isn't asked where a rule holds.
+func TestChoiceOfNoName(t *testing.T) {
+	broken := is("$.gone", "1", "B")
+	within := func(op int, inner string) api.Rule {
+		return api.Rule{Op: op, All: []api.Rule{is("$.n", "3", inner)}}
+	}
+	leads, none, breaks := done(`"B"`, 2), ended(noChoice, 1), ended(runtime, 1)
+	for i, x := range []struct {
+		rules []api.Rule
+		other string
+		want  api.Report
+	}{
+		{[]api.Rule{is("$.n", "3", "")}, "", none}, {[]api.Rule{is("$.n", "3", "")}, "B", none}, {[]api.Rule{is("$.n", "3", "")}, "gone", none},
+		{[]api.Rule{is("$.n", "3", ""), is("$.n", "3", "B")}, "B", none}, {[]api.Rule{is("$.n", "4", "B"), is("$.n", "3", "")}, "B", none},
+		{[]api.Rule{is("$.n", "3", ""), broken}, "B", none}, {[]api.Rule{broken, is("$.n", "3", "")}, "B", breaks},
+		{[]api.Rule{within(1, "B")}, "B", none}, {[]api.Rule{within(2, "B")}, "B", none}, {[]api.Rule{within(3, "B"), within(1, "B")}, "B", none},
+		{[]api.Rule{is("$.n", "4", "")}, "B", leads}, {[]api.Rule{is("$.n", "4", ""), is("$.n", "3", "B")}, "", leads},
+		{[]api.Rule{is("$.n", "4", "")}, "", none}, {nil, "", none},
+	} {
+		s := api.State{Name: "C", Type: api.Choice, Rules: x.rules, Default: x.other, Next: "B"}
+		for _, beside := range [][]api.State{nil, {gives("", "0", "")}, {{Type: api.Succeed}}, {{Type: 9}}} {
+			m := takenCare(s)
+			m.States = slices.Concat(m.States, []api.State{gives("B", `"B"`, "")}, beside)
+			wants(t, fmt.Sprint(i), of(m, `{"n":3}`), x.want)
+		}
+	}
+}
+
+// TestChoiceOfNoNameWithin holds what goes ahead of a next state whose name is empty and what doesn't, and that the error goes up to whoever has a retrier or a catcher for it.
+func TestChoiceOfNoNameWithin(t *testing.T) {
+	in := `{"n":3}`
+	s := api.State{Name: "C", Type: api.Choice, Rules: []api.Rule{is("$.n", "3", "")}, Default: "B", Output: way("$.q")}
+	m := machine(s, pass("B", ""), pass("", ""))
+	wants(t, "it comes ahead of Out", of(m, in), ended(noChoice, 1))
+	wants(t, "and of the fuel", of(m, in).fuelled(1), ended(noChoice, 1))
+	m.States[0].Input = way("$.q")
+	wants(t, "In comes ahead of it", of(m, in), ended(runtime, 1))
+	m.States[0].Input, m.States[0].Output = api.Path{}, api.Path{}
+	p := parallel("P", "", passing(), m)
+	lost := contest(at(1, 1), 1, 1)
+	wants(t, "a part", of(machine(p), in), ended(noChoice, 3), lost)
+	p.Retry = []api.Retrier{retries(1, runtime), retries(1, noChoice)}
+	again := contest(at(1, 2), 1, 1)
+	wants(t, "retried", of(machine(p), in), ended(noChoice, 3+2+3), lost, again)
+	p.Retry, p.Catch = nil, []api.Catcher{catches("Z", "$", runtime), catches("Z", "$", noChoice)}
+	caught := `{"Error":"States.NoChoiceMatched","Cause":""}`
+	wants(t, "caught", of(machine(p, pass("Z", "")), in), done(caught, 4), lost)
+	p.Catch[1].Next = "" // a name as any other: of a catcher nothing is said of an empty one
+	wants(t, "caught, to a state without a name", of(machine(p, pass("", "")), in), done(caught, 4), lost)
+	wants(t, "caught, to none", of(machine(p), in), ended(runtime, 3), lost)
 }
 
 // TestChoicePaths holds that rules go by what In gave, that what Out gives is what the next state has, and which of them is asked first.

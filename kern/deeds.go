@@ -57,21 +57,23 @@ func (f *frame) choose(in api.Value) {
 	f.enter(next, out)
 }
 
-// chosen gives the name of the state that a Choice comes to, or an error's.
+// chosen gives the name of the state that a Choice comes to, or an error's. A rule that holds decides, though its Next be empty: Default isn't asked any more.
 func (f *frame) chosen(in, ctx api.Value) (next, name string) {
+	next = f.state.Default
 	for _, r := range f.state.Rules {
 		holds, err := rule.Eval(r, in, ctx)
 		if err != nil {
 			return "", runtimeName
 		}
 		if holds {
-			return r.Next, noName
+			next = r.Next
+			break
 		}
 	}
-	if f.state.Default == "" {
+	if next == "" {
 		return "", noChoiceName
 	}
-	return f.state.Default, noName
+	return next, noName
 }
 
 // branch fans a Parallel out. A part that fails has the frame's trouble told already.

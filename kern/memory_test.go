@@ -172,6 +172,10 @@ func TestMemory(t *testing.T) {
 	frames := 0
 	for range 80 {
 		m, in := randomMachine(r, 2), randomValue(r)
+		if maybe(r, 3) { // many frames at once, also behind the first one that fails
+			m = machine(parallel("P", "", randomMachine(r, 1), randomMachine(r, 1), randomMachine(r, 1), randomMachine(r, 1)))
+			m.States[0].Retry = []api.Retrier{retries(9, all)}
+		}
 		c, now := kern.Begin(m, in, 12), int64(0)
 		for range 25 {
 			if maybe(r, 3) {

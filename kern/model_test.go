@@ -424,7 +424,7 @@ func (w *model) moveMap(f api.Frame, s api.State, in api.Value) {
 
 func (w *model) moveChoice(f api.Frame, s api.State, in api.Value) {
 	ctx := w.context(f, f.Place)
-	next, found := s.Default, s.Default != ""
+	next := s.Default
 	for _, r := range s.Rules {
 		holds, err := rule.Eval(r, in, ctx)
 		if err != nil {
@@ -432,13 +432,13 @@ func (w *model) moveChoice(f api.Frame, s api.State, in api.Value) {
 			return
 		}
 		if holds {
-			next, found = r.Next, true
+			next = r.Next
 			break
 		}
 	}
 	out, name := pipe.Out(s, f.Raw, in, ctx)
 	switch {
-	case !found:
+	case next == "":
 		w.trouble(f, noChoice, "")
 	case name != "":
 		w.trouble(f, name, "")

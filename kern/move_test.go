@@ -1,6 +1,7 @@
 package kern_test
 
 import (
+	"fmt"
 	"strings"
 	"testing"
 
@@ -144,7 +145,7 @@ func TestChoice(t *testing.T) {
 		{[]api.Rule{{Op: 3, All: []api.Rule{is("$.n", "4", "gone")}, Next: "D"}}, "E", "D"},
 		{[]api.Rule{is("$.n", "3", "gone")}, "E", runtime},
 		{[]api.Rule{is("$.n", "3", "N")}, "E", runtime},
-		{[]api.Rule{is("$.n", "3", "")}, "E", runtime}, // a rule's Next may not be left out: there is no state without a name
+		{[]api.Rule{is("$.n", "3", "")}, "E", noChoice},
 		{nil, "gone", runtime},
 		{nil, "N", runtime},
 		{[]api.Rule{{Op: 15, Var: way("$$.State.RetryCount"), With: val("0"), Next: "B"}}, "E", "B"},
@@ -166,6 +167,66 @@ func TestChoice(t *testing.T) {
 			t.Errorf("%d: %s, want left %d", i, shown(c), left)
 		}
 	}
+}
+
+// TestChoiceOfNoName holds that a next state whose name is empty is none, whether a rule that holds gave it or Default did, and though a state be called so: nothing is ENTERed, and Default isn't asked.
+func TestChoiceOfNoName(t *testing.T) {
+	broken := api.Rule{Op: 15, Var: way("$.gone"), With: val("1"), Next: "B"}
+	within := func(op int, inner string) api.Rule {
+		return api.Rule{Op: op, All: []api.Rule{is("$.n", "3", inner)}}
+	}
+	for i, x := range []struct {
+		rules []api.Rule
+		other string
+		want  string // the state, or an error
+	}{
+		{[]api.Rule{is("$.n", "3", "")}, "", noChoice},
+		{[]api.Rule{is("$.n", "3", "")}, "B", noChoice},
+		{[]api.Rule{is("$.n", "3", "")}, "gone", noChoice},
+		{[]api.Rule{is("$.n", "3", ""), is("$.n", "3", "B")}, "B", noChoice},
+		{[]api.Rule{is("$.n", "4", "B"), is("$.n", "3", "")}, "B", noChoice},
+		{[]api.Rule{is("$.n", "3", ""), broken}, "B", noChoice},
+		{[]api.Rule{broken, is("$.n", "3", "")}, "B", runtime},
+		{[]api.Rule{within(1, "B")}, "B", noChoice},
+		{[]api.Rule{within(2, "B")}, "B", noChoice},
+		{[]api.Rule{within(3, "B"), within(1, "B")}, "B", noChoice},
+		{[]api.Rule{is("$.n", "4", "")}, "B", "B"},
+		{[]api.Rule{is("$.n", "4", ""), is("$.n", "3", "B")}, "", "B"},
+		{[]api.Rule{is("$.n", "4", "")}, "", noChoice},
+		{nil, "", noChoice},
+	} {
+		s := api.State{Name: "C", Type: api.Choice, Rules: x.rules, Default: x.other, Next: "B"}
+		s.Retry, s.Catch = []api.Retrier{retries(5, all)}, []api.Catcher{catches("B", "$", all)} // a Choice has none
+		in := val(`{"n":3}`)
+		for _, beside := range [][]api.State{nil, {pass("", "")}, {{Type: api.Succeed}}, {{Type: 9}}} {
+			m := machine(append([]api.State{s, pass("B", "")}, beside...)...)
+			c := after(t, m, in, 5)
+			want := api.Frame{At: "C", Visit: 1, Attempt: 1, Left: 4, Raw: in, Charged: []int{0}, Index: -1, Phase: api.Failed, Error: x.want}
+			if x.want == "B" {
+				want = api.Frame{At: "B", Visit: 2, Attempt: 1, Left: 3, Raw: in, Index: -1}
+			}
+			wantConfig(t, fmt.Sprint(i), c, api.Config{Fuel: 5, Frames: []api.Frame{want}})
+		}
+	}
+}
+
+// TestChoiceOfNoNameWithin holds what goes ahead of a next state whose name is empty and what doesn't, and that the error goes up to whoever has a retrier or a catcher for it.
+func TestChoiceOfNoNameWithin(t *testing.T) {
+	in := val(`{"n":3}`)
+	s := api.State{Name: "C", Type: api.Choice, Rules: []api.Rule{is("$.n", "3", "")}, Default: "B", Output: way("$.q")}
+	m := machine(s, pass("B", ""), pass("", ""))
+	wantFailed(t, "it comes ahead of Out", after(t, m, in, 5), "C", noChoice, "")
+	wantFailed(t, "and of the fuel", after(t, m, in, 1), "C", noChoice, "")
+	m.States[0].Input = way("$.q")
+	wantFailed(t, "In comes ahead of it", after(t, m, in, 5), "C", runtime, "")
+	m.States[0].Input, m.States[0].Output = api.Path{}, api.Path{}
+	p := parallel("P", "", m)
+	wantFailed(t, "a part", ends(t, machine(p), in, 9, echo), "P", noChoice, "")
+	p.Catch = []api.Catcher{catches("Z", "$", runtime), catches("Z", "$", noChoice)}
+	wantDone(t, "caught", ends(t, machine(p, pass("Z", "")), in, 9, echo), `{"Error":"States.NoChoiceMatched","Cause":""}`)
+	p.Catch[1].Next = "" // a name as any other: of a catcher nothing is said of an empty one
+	wantDone(t, "caught, to a state without a name", ends(t, machine(p, pass("", "")), in, 9, echo), `{"Error":"States.NoChoiceMatched","Cause":""}`)
+	wantFailed(t, "caught, to none", ends(t, machine(p), in, 9, echo), "P", runtime, "")
 }
 
 // TestChoicePaths holds that a Choice's rules go by what In gave, and that Out comes behind them.

@@ -82,19 +82,22 @@ func randomCatch(r *rand.Rand, next func() string) []api.Catcher {
 func randomRules(r *rand.Rand, next func() string) []api.Rule {
 	var l []api.Rule
 	for range r.Intn(4) {
-		one := api.Rule{Op: oneOf(r, 15, 17, 38, 41, 39), Var: way(oneOf(r, "$.n", "$.n", "$.l", "$$.State.RetryCount", "$$.Map.Item.Index")), With: val(oneOf(r, "0", "1", "2", "true", "false")), Next: next()}
+		one := api.Rule{Op: oneOf(r, 15, 17, 38, 41, 39), Var: way(oneOf(r, "$.n", "$.n", "$.l", "$$.State.RetryCount", "$$.Map.Item.Index")), With: val(oneOf(r, "0", "1", "2", "3", "true")), Next: next()}
 		if maybe(r, 5) {
 			one = api.Rule{Op: oneOf(r, 1, 2, 3), All: []api.Rule{one}, Next: next()}
 		}
 		if one.Op >= 37 {
 			one.With = val(oneOf(r, "true", "false"))
 		}
+		if maybe(r, 8) {
+			one.Next = ""
+		}
 		l = append(l, one)
 	}
 	return l
 }
 
-// randomMachine has states of all types, and parts so deep. Most of what it is told by leads somewhere.
+// randomMachine has states of all types, and parts so deep; some have a state without a name. Most of what it is told by leads somewhere.
 func randomMachine(r *rand.Rand, deep int) api.Machine {
 	names := []string{"A", "B", "C", "D"}[:1+r.Intn(4)]
 	next := func() string {
@@ -112,11 +115,14 @@ func randomMachine(r *rand.Rand, deep int) api.Machine {
 		s.Name = name
 		m.States = append(m.States, s)
 	}
+	if maybe(r, 2) {
+		m.States = append(m.States, pass("", oneOf(r, names...)))
+	}
 	return api.Machine{Start: m.Start, States: append(m.States, api.State{Name: "N", Type: oneOf(r, 0, 9, -1)}, pass("A", ""))}
 }
 
 func randomState(r *rand.Rand, deep int, next func() string) api.State {
-	s := api.State{Type: oneOf(r, 1, 1, 1, 2, 2, 2, 2, 2, 2, 3, 4, 4, 5, 6, 7, 7, 7, 8, 8, 8), Resource: oneOf(r, "r", "s"), Input: randomPath(r), Output: randomPath(r), Result: randomPut(r)}
+	s := api.State{Type: oneOf(r, 1, 1, 1, 2, 2, 2, 2, 2, 2, 3, 3, 3, 4, 4, 5, 6, 7, 7, 7, 8, 8, 8), Resource: oneOf(r, "r", "s"), Input: randomPath(r), Output: randomPath(r), Result: randomPut(r)}
 	if deep == 0 && s.Type >= api.Parallel {
 		s.Type = api.Task
 	}
