@@ -13,9 +13,9 @@ type clerk struct {
 	asked []api.Key
 }
 
-// Do notes a key and does its task.
+// Do notes a key, which is new memory, and does its task; those that answer by a list don't change it.
 func (c *clerk) Do(k api.Key) api.Outcome {
-	c.asked = append(c.asked, ownKey(k))
+	c.asked = append(c.asked, k)
 	return c.tasks.Do(k)
 }
 
